@@ -1,0 +1,1 @@
+"""Doors between unlike nets, by which things cross from kind to kind and back."""
