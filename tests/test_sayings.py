@@ -6,32 +6,7 @@ import unittest
 from doorkinds.errors import DoorError, NoPath
 from doorkinds.sayings import is_saying, part_at, paths_of, size_of
 from oddities import ANYTHING, DEEP_LIST, DEEP_TUPLE, NO_TEXTS, SIGNS
-
-KINDS = ("letters", "calls", "pages", "sounds")
-NAMES = {
-    "letters": ["ann@hill", "c@doora"],
-    "calls": ["+123", "+9012"],
-    "pages": ["/hill/ann", "/doora/c"],
-    "sounds": ["c-e-g", "g-a-b-f"],
-}
-W = ("word", "hi")
-PAUSE = ("pause",)
-
-
-def loud(*parts):
-    return ("loud", parts)
-
-
-def quote(*parts):
-    return ("quote", parts)
-
-
-def nested(deep, part=W):
-    """The part with so many groups round it."""
-    for number in range(deep):
-        part = loud(part) if number % 2 else quote(part)
-    return part
-
+from samples import KINDS, NAMES, PAUSE, W, loud, nested, quote
 
 MIXED = (
     W,
