@@ -2,6 +2,7 @@
 
 from doorkinds.errors import NoBody
 from doorkinds.growing import Growing
+from doorkinds.rows import is_row_of_texts
 from doorkinds.wholes import whole_of
 
 _SPOKEN_SIGNS = {
@@ -52,7 +53,7 @@ def _is_said(word):
 
 def read(body):
     """Tell the saying that a body of calls speaks, or refuse with NoBody, of anything."""
-    if not isinstance(body, tuple) or not all([isinstance(word, str) for word in body]):
+    if not is_row_of_texts(body):
         raise NoBody("a body of calls is a tuple of texts")
     growing = Growing()
     at = 0

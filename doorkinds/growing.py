@@ -1,7 +1,7 @@
 """A saying that grows part by part while a body is read."""
 
 from doorkinds.errors import NoBody
-from doorkinds.sayings import MOST_DEEP, is_saying
+from doorkinds.sayings import MOST_DEEP, MOST_PARTS, is_saying
 from doorkinds.wholes import whole_of
 
 
@@ -11,9 +11,14 @@ class Growing:
     def __init__(self):
         self._begun = []
         self._levels = [[]]
+        self._many = 0
 
     def put(self, part):
-        """Put a part behind the others, within the group that was begun last."""
+        """Put a part behind the others, within the group that was begun last, or refuse with NoBody."""
+        self._many += 1
+        # Asked here already, as a body may have very many parts.
+        if self._many > MOST_PARTS:
+            raise NoBody("there are too many parts")
         self._levels[-1].append(part)
 
     def begin(self, first):

@@ -16,6 +16,11 @@ def is_whole_within(thing, least, most):
     return is_whole(thing) and least <= thing <= most
 
 
+def is_whole_from(thing, least):
+    """Tell of anything whether it is a whole number from least on."""
+    return is_whole(thing) and least <= thing
+
+
 def whole_of(text):
     """Tell the whole number that the text writes, or None where it writes none."""
     figures = text.removeprefix("-")

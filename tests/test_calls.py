@@ -7,7 +7,7 @@ import unittest
 
 from doorkinds.calls import read, written
 from doorkinds.errors import DoorError, NoBody
-from oddities import ANYTHING, SIGNS
+from oddities import ANYTHING, NO_TEXTS, SIGNS
 from samples import NUMBERS, PAUSE, W, quote, some_sayings, within
 
 A, B = ("word", "a"), ("word", "b")
@@ -160,7 +160,9 @@ class Read(unittest.TestCase):
         self.refused(("number", *("one",) * 1999))
 
     def test_figures_and_over_alone(self):
-        self.unspoken(*FIGURES, "over", "one two", "over over", "number one over over", "pause over", "spell o n e over over")
+        self.unspoken(
+            *FIGURES, "over", "one two", "over over", "number one over over", "pause over", "spell o n e over over",
+        )
 
     def test_names_of_two_and_ten_figures(self):
         self.unspoken("name over", *["name" + " one" * many + " over" for many in (1, 2, 10, 11, 12, 100)])
@@ -169,11 +171,13 @@ class Read(unittest.TestCase):
 
     def test_names_otherwise(self):
         self.unspoken(
-            "name minus one two three over", "name one two three four minus over", "name a b c over", "name one two a over",
+            "name minus one two three over", "name one two three four minus over", "name a b c over",
+            "name one two a over",
             "name one two three pause over", "name spell over", "name name one two three over", "name ann over",
         )
         self.refused(*[spoken(body) for body in (
-            "name", "name one two three", "hi name one two three", "quote name one two three unquote", "name one two three hi",
+            "name", "name one two three", "hi name one two three", "quote name one two three unquote",
+            "name one two three hi",
         )])
 
     def test_a_word_spelled_that_need_not_be(self):
@@ -187,7 +191,8 @@ class Read(unittest.TestCase):
             ("spell", "o", "ne", "over"), ("spell", "one", "over"), ("spell", "o", "n", "", "e", "over"),
             ("spell", "", "over"), ("spell", "", "o", "n", "e", "over"), ("spell", "over", "over"),
             ("spell", "o", "n", "e", "s", "over"), ("spell", "o", "n", "over"), ("spell", "O", "n", "e", "over"),
-            ("spell", "o", "n", "e"), ("spell", "o", "v", "e", "r"), ("spell", "o n", "e", "over"), ("spell", "o", " ", "n", "e", "over"),
+            ("spell", "o", "n", "e"), ("spell", "o", "v", "e", "r"), ("spell", "o n", "e", "over"),
+            ("spell", "o", " ", "n", "e", "over"),
             ("spell", "quote", "over"), ("spell", "a", "b", "c", "d", "e", "f", "g", "h", "i", "over"),
             ("spell", *"a" * 1998, "over"), ("spell", *"o" * 1999), ("spell", *("a" * 20000,) * 100, "over"),
         )
@@ -225,7 +230,8 @@ class Read(unittest.TestCase):
         self.assertEqual(read(spoken("number one over") * 60), (("number", 1),) * 60)
         self.assertEqual(read(spell("unquote") * 60), (("word", "unquote"),) * 60)
         self.refused(
-            ("hi",) * 61, ("quote",) + ("hi",) * 60 + ("unquote",), ("quote", "hi", "unquote") * 30 + ("hi",), ("pause",) * 61,
+            ("hi",) * 61, ("quote",) + ("hi",) * 60 + ("unquote",), ("quote", "hi", "unquote") * 30 + ("hi",),
+            ("pause",) * 61,
             spoken("number one over") * 61, spell("unquote") * 61, spoken("name one two three over") * 61,
         )
 
@@ -242,7 +248,8 @@ class Read(unittest.TestCase):
             else:
                 self.refused((sign,), ("a" + sign,), (sign + "a",), ("a", sign), (sign, "a"))
         self.refused(
-            ("",), ("hi", ""), ("", "hi"), ("Hi",), ("a b",), ("pause ",), (" pause",), ("hi\n",), ("Pause",), ("quote ", "hi", "unquote"),
+            ("",), ("hi", ""), ("", "hi"), ("Hi",), ("a b",), ("pause ",), (" pause",), ("hi\n",), ("Pause",),
+            ("quote ", "hi", "unquote"),
             ("number", "1", "over"), ("number", "12", "over"), ("1",), ("12",), ("number", "", "over"),
             ("number", "one two", "over"), ("name", "123", "over"), ("name", "+", "1", "2", "3", "over"), ("+123",),
             ("number", "-", "one", "over"), ("number", "one", "over "), ("name", "one", "two", "three", "", "over"),
@@ -252,13 +259,15 @@ class Read(unittest.TestCase):
 
     def test_what_is_no_tuple_of_texts(self):
         self.refused(
-            [], ["hi"], ["pause"], ["quote", "hi", "unquote"], {}, {"hi": "hi"}, {"hi"}, "", "hi", "pause", "a", 0, 1, True,
+            [], ["hi"], ["pause"], ["quote", "hi", "unquote"], {}, {"hi": "hi"}, {"hi"}, "", "hi", "pause", "a", 0, 1,
+            True,
             False, None, 10 ** 9, b"hi", -1,
         )
-        for thing in (None, 0, 1, True, False, [], ["a"], (), ("a",), {}, {"a": "a"}, 10 ** 30, b"a", ("word", "a"), ("pause",)):
+        for thing in NO_TEXTS + [b"a", ["hi"], ("pause",)]:
             self.refused(
                 (thing,), ("hi", thing), (thing, "hi"), ("number", thing, "over"), ("number", "one", thing, "over"),
-                ("name", "one", "two", "three", thing, "over"), ("spell", thing, "over"), ("spell", "o", "n", thing, "over"),
+                ("name", "one", "two", "three", thing, "over"), ("spell", thing, "over"),
+                ("spell", "o", "n", thing, "over"),
                 ("quote", thing, "unquote"), ("quote", "hi", thing), ("number", "one", thing), (thing,) * 2000,
             )
         self.refused((W,), (PAUSE,), (quote(W),), (W, PAUSE))
@@ -296,7 +305,8 @@ class Read(unittest.TestCase):
             body = written(saying)
             for _ in range(12):
                 at = chance.randint(0, len(body))
-                bent = body[:at] + tuple(chance.choices(words, k=chance.randint(0, 1))) + body[at + chance.randint(0, 2):]
+                put = tuple(chance.choices(words, k=chance.randint(0, 1)))
+                bent = body[:at] + put + body[at + chance.randint(0, 2):]
                 # The pattern doesn't know how great a number may be.
                 if not re.search("( [a-z]+){10} over", " ".join(bent)):
                     self.held_against(bent)

@@ -77,8 +77,8 @@ class Language(unittest.TestCase):
                     self.assertEqual(package, "doorkinds")
                     for alias in node.names:
                         with self.subTest(file=name, taken=alias.name):
-                            self.assertIsNone(alias.asname)
                             self.assertIn(alias.name, defined[file])
+                            self.assertNotIn(alias.asname or alias.name, defined[name[:-3]])
 
     def test_barred_statements(self):
         for name, tree in trees():

@@ -128,7 +128,8 @@ class Lessened(unittest.TestCase):
         self.comes_to((W, loud(PAUSE), loud(PICTURE), W, loud(PICTURE, W)), "sounds", (W, loud(PAUSE), W, loud(W)), [
             ((2, 0), "picture"), ((4, 0), "picture"),
         ])
-        self.comes_to((loud(loud(PICTURE), W, loud(loud(PICTURE))), quote(PICTURE), PAUSE), "sounds", (loud(W), PAUSE), [
+        said = (loud(loud(PICTURE), W, loud(loud(PICTURE))), quote(PICTURE), PAUSE)
+        self.comes_to(said, "sounds", (loud(W), PAUSE), [
             ((0, 0, 0), "picture"), ((0, 2, 0, 0), "picture"), ((1,), "quote"), ((1, 0), "picture"),
         ])
         self.comes_to((quote(W), quote(loud(PICTURE)), quote(PAUSE)), "calls", (quote(W), quote(PAUSE)), [
@@ -138,7 +139,8 @@ class Lessened(unittest.TestCase):
     def test_numbers_in_paths_are_those_of_the_saying_ahead(self):
         said = (PICTURE, quote(PICTURE, ("name", "ann@hill")), W, ("name", "ann@hill"), PICTURE, loud(W, PICTURE))
         self.comes_to(said, "sounds", (SOMEONE, W, SOMEONE, loud(W)), [
-            ((0,), "picture"), ((1,), "quote"), ((1, 0), "picture"), ((1, 1), "name"), ((3,), "name"), ((4,), "picture"),
+            ((0,), "picture"), ((1,), "quote"), ((1, 0), "picture"), ((1, 1), "name"), ((3,), "name"),
+            ((4,), "picture"),
             ((5, 1), "picture"),
         ])
 

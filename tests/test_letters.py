@@ -15,7 +15,9 @@ A, B = ("word", "a"), ("word", "b")
 NAME = ("name", "ann@hill")
 PICTURE = ("picture", ("012", "345"))
 PLAIN = [("hi", W), ("-12", ("number", -12)), ("0", ("number", 0)), ("ann@hill", NAME)]
-SIGNED = [(";", PAUSE), ("[012/345]", PICTURE), ("[7]", ("picture", ("7",))), ("< hi >", loud(W)), ("{ ; }", quote(PAUSE))]
+SIGNED = [
+    (";", PAUSE), ("[012/345]", PICTURE), ("[7]", ("picture", ("7",))), ("< hi >", loud(W)), ("{ ; }", quote(PAUSE)),
+]
 
 
 def read_otherwise(text):
@@ -144,7 +146,10 @@ class Read(unittest.TestCase):
         self.comes_to("\n< \n a\n>\n", loud(A))
 
     def test_one_is_needed_between_words_names_and_numbers(self):
-        self.refused("a1", "1a", "a0", "0a", "a-1", "-1a", "1-1", "-1-1", "5-3", "0-3", "00", "0-0", "--1", "a@b1", "1a@b", "a@b-1")
+        self.refused(
+            "a1", "1a", "a0", "0a", "a-1", "-1a", "1-1", "-1-1", "5-3", "0-3", "00", "0-0", "--1", "a@b1", "1a@b",
+            "a@b-1",
+        )
         self.refused("-1a@b", "a@ba@b", "ann@hillann@hill", "a@b@c", "hi-12", "-12hi", "ann@hill0", "0ann@hill")
         # Two words without a blank are one.
         self.comes_to("ab", ("word", "ab"))
@@ -166,7 +171,10 @@ class Read(unittest.TestCase):
     def test_noughts_ahead_and_nought(self):
         self.comes_to("0", ("number", 0))
         self.comes_to("100", ("number", 100))
-        self.refused("00", "01", "007", "-0", "-00", "-01", "0" * 10, "0000000001", "-0000000001", "-", "--", "+0", "+1", "0-", "1-")
+        self.refused(
+            "00", "01", "007", "-0", "-00", "-01", "0" * 10, "0000000001", "-0000000001", "-", "--", "+0", "+1", "0-",
+            "1-",
+        )
 
     def test_ten_and_eleven_figures(self):
         self.comes_to("1000000000", ("number", 10 ** 9))
@@ -177,7 +185,9 @@ class Read(unittest.TestCase):
 
     def test_a_row_of_very_many_figures(self):
         for many in (12, 100, 4299, 4300, 4301, 5000, 19999, 20000):
-            self.refused("1" * many, "0" * many, "-" + "9" * many, "a " + "1" * many, "1" * many + ";", "[" + "1" * many + "]")
+            self.refused(
+                "1" * many, "0" * many, "-" + "9" * many, "a " + "1" * many, "1" * many + ";", "[" + "1" * many + "]",
+            )
 
     def test_words_and_names_too_long(self):
         self.comes_to("abcdefgh", ("word", "abcdefgh"))
@@ -193,17 +203,22 @@ class Read(unittest.TestCase):
         self.comes_to("[01234567/01234567]", ("picture", ("01234567",) * 2))
         self.refused(
             "[0/1/2/3/4/5/6]", "[012345678]", "[012345678/012345678]", "[0/12]", "[01/2]", "[01/23/4]", "[]", "[/]",
-            "[0/]", "[/0]", "[0//1]", "[//]", "[a]", "[0a]", "[-1]", "[0.1]", "[0,1]", "[0;1]", "[<0>]", "[{0}]", "[0@1]",
-            "[", "]", "][", "[[0]]", "[0", "0]", "[0]]", "[[0]", "[0[1]]", "[]0]", "[0[]", "[0/[1]]", "0/1", "[0/1", "/",
+            "[0/]", "[/0]", "[0//1]", "[//]", "[a]", "[0a]", "[-1]", "[0.1]", "[0,1]", "[0;1]", "[<0>]", "[{0}]",
+            "[0@1]",
+            "[", "]", "][", "[[0]]", "[0", "0]", "[0]]", "[[0]", "[0[1]]", "[]0]", "[0[]", "[0/[1]]", "0/1", "[0/1",
+            "/",
             "< [0 >]", "[" * 20000, "]" * 20000, "[" + "0/" * 9999 + "]",
         )
 
     def test_empty_groups(self):
-        self.refused("<>", "< >", "{}", "{ }", "<\n>", "a<>", "<>a", "<{}>", "{<>}", "<a{}>", "<a<>b>", "{ a { } }", "<><>")
+        self.refused(
+            "<>", "< >", "{}", "{ }", "<\n>", "a<>", "<>a", "<{}>", "{<>}", "<a{}>", "<a<>b>", "{ a { } }", "<><>",
+        )
 
     def test_an_end_too_few_too_many_or_of_the_wrong_sign(self):
         self.refused(
-            "<", ">", "{", "}", "<a", "a>", "{a", "a}", "<a>>", "<<a>", "{a}}", "{{a}", "<a}", "{a>", "<{a>}", "{<a}>", "><",
+            "<", ">", "{", "}", "<a", "a>", "{a", "a}", "<a>>", "<<a>", "{a}}", "{{a}", "<a}", "{a>", "<{a>}",
+            "{<a}>", "><",
             "}{", ">a<", "a><b", "<a{b>", "<a}b>", "<a>}", "{a}>", "<a> b >", "a < b", "< a > { b",
         )
 
@@ -219,7 +234,9 @@ class Read(unittest.TestCase):
 
     def test_very_deep(self):
         for many in (100, 1000, 9999):
-            self.refused("<" * many + "a" + ">" * many, "{" * many + "a" + "}" * many, "<" * many, ">" * many, "{<" * many)
+            self.refused(
+                "<" * many + "a" + ">" * many, "{" * many + "a" + "}" * many, "<" * many, ">" * many, "{<" * many,
+            )
 
     def test_sixty_and_sixty_one_parts(self):
         self.comes_to("a " * 59, *(A,) * 59)
@@ -235,7 +252,10 @@ class Read(unittest.TestCase):
         self.comes_to(" " * 10000 + "a" + "\n" * 9999, A)
         self.comes_to("a" + " \n" * 9999 + "b", A, B)
         self.comes_to(("a" + " " * 332) * 60, *(A,) * 60)
-        self.refused("a " * 10000, ";" * 20000, "<a>" * 6666, "[7]" * 6666, "~" * 20000, "-" * 20000, "@" * 20000, "a@b " * 5000)
+        self.refused(
+            "a " * 10000, ";" * 20000, "<a>" * 6666, "[7]" * 6666, "~" * 20000, "-" * 20000, "@" * 20000,
+            "a@b " * 5000,
+        )
 
     def test_the_empty_text_and_texts_of_blanks(self):
         for body in ("", " ", "\n", "  ", " \n", "\n ", "\n\n\n", "     "):
@@ -250,7 +270,10 @@ class Read(unittest.TestCase):
                 self.refused(sign, sign + sign, "a " + sign, sign + " a")
             if sign not in " \n;abcdefghijklmnopqrstuvwxyz":
                 self.refused("a" + sign, sign + "a", "a" + sign + "1")
-        self.refused("Hi", "hI", "a.", "a,", "a!", "a_b", "a:b", "a'", '"a"', "a|b", "\\n", "(a)", "*", "$1", "1.0", "1e3", "#", "&")
+        self.refused(
+            "Hi", "hI", "a.", "a,", "a!", "a_b", "a:b", "a'", '"a"', "a|b", "\\n", "(a)", "*", "$1", "1.0", "1e3",
+            "#", "&",
+        )
 
     def test_what_is_no_text(self):
         self.refused(*NO_TEXTS)

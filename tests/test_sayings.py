@@ -65,7 +65,9 @@ class IsSaying(Asking):
 
     def test_names_of_every_word_and_part(self):
         self.fits([(("word", word),) for word in ["a", "abcdefgh", "someone", "over", "number", "word", "z" * 8]])
-        self.unfit_parts([("word", word) for word in ["", "abcdefghi", "A", "a b", "a1", "a\n", "\na", "ann@hill", "+12"]])
+        self.unfit_parts(
+            [("word", word) for word in ["", "abcdefghi", "A", "a b", "a1", "a\n", "\na", "ann@hill", "+12"]],
+        )
         self.unfit_parts([("word", thing) for thing in NO_TEXTS])
 
     def test_numbers(self):
@@ -104,7 +106,8 @@ class IsSaying(Asking):
     def test_lists_for_tuples(self):
         self.unfit([[], [W], [list(W)], [["word", "a"]]])
         self.unfit_parts([
-            ["word", "hi"], ["pause"], ["number", 1], ["loud", (W,)], ("loud", [W]), ("quote", [W]), loud(["word", "hi"]),
+            ["word", "hi"], ["pause"], ["number", 1], ["loud", (W,)], ("loud", [W]), ("quote", [W]),
+            loud(["word", "hi"]),
             quote(list(PAUSE)), ("loud", [["pause"]]), ["picture", ("0",)], ("picture", ["0"]),
         ])
 
