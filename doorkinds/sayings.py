@@ -5,6 +5,7 @@ from doorkinds.kinds import FIGURES, is_made_of, is_name, is_word
 from doorkinds.wholes import is_whole_within
 
 GROUPS = ("loud", "quote")
+FIRST_WORDS = ("word", "number", "name", "pause", "picture", "loud", "quote")
 MOST_PARTS = 60
 MOST_DEEP = 4
 LARGEST = 10 ** 9
@@ -82,6 +83,15 @@ def _add_paths(parts, ahead, found):
         path = (*ahead, at)
         found.append(path)
         _add_paths(parts_within(part), path, found)
+
+
+def parts_of(saying):
+    """Tell all parts in the order of their paths, a list."""
+    found = []
+    for part in saying:
+        found.append(part)
+        found.extend(parts_of(parts_within(part)))
+    return found
 
 
 def part_at(saying, path):

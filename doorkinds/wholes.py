@@ -21,6 +21,11 @@ def is_whole_from(thing, least):
     return is_whole(thing) and least <= thing
 
 
+def is_side(thing):
+    """Tell of anything whether it is the number of a side, 0 or 1."""
+    return is_whole_within(thing, 0, 1)
+
+
 def whole_of(text):
     """Tell the whole number that the text writes, or None where it writes none."""
     figures = text.removeprefix("-")

@@ -95,6 +95,84 @@ class Language(unittest.TestCase):
                     if isinstance(node.value, str):
                         self.assertNotIn("%", node.value)
 
+    def test_no_name_has_two_meanings_in_a_file(self):
+        import builtins
+        for name, tree in trees():
+            taken = set(dir(builtins))
+            for node in tree.body:
+                if isinstance(node, ast.ImportFrom):
+                    taken |= {alias.asname or alias.name for alias in node.names}
+                elif isinstance(node, ast.ClassDef):
+                    taken.add(node.name)
+            for node in ast.walk(tree):
+                if isinstance(node, ast.arg):
+                    self.assertNotIn(node.arg, taken, name)
+                elif isinstance(node, ast.Name) and isinstance(node.ctx, ast.Store):
+                    self.assertNotIn(node.id, taken, name)
+
+    def test_no_two_files_import_from_each_other(self):
+        taken = {
+            name[:-3]: {node.module.split(".")[1] for node in tree.body if isinstance(node, ast.ImportFrom)}
+            for name, tree in trees()
+        }
+        done = set()
+        while len(done) < len(taken):
+            ready = {name for name, others in taken.items() if name not in done and others <= done}
+            self.assertTrue(ready, sorted(set(taken) - done))
+            done |= ready
+
+    def test_modules_hold_functions_classes_and_plain_values(self):
+        for name, tree in trees():
+            for at, node in enumerate(tree.body):
+                if at == 0:
+                    self.assertIsInstance(node, ast.Expr, name)
+                    self.assertIsInstance(node.value.value, str)
+                    continue
+                self.assertIsInstance(node, (ast.ImportFrom, ast.FunctionDef, ast.ClassDef, ast.Assign), name)
+                if isinstance(node, ast.Assign):
+                    for value in ast.walk(node.value):
+                        self.assertNotIsInstance(value, (ast.Call, ast.ListComp, ast.DictComp, ast.Set), name)
+
+    def test_sets_are_only_measured(self):
+        for name, tree in trees():
+            fine = [
+                node.args[0] for node in ast.walk(tree)
+                if isinstance(node, ast.Call) and isinstance(node.func, ast.Name) and node.func.id in ("len", "sorted")
+            ]
+            for node in ast.walk(tree):
+                if isinstance(node, ast.Call) and isinstance(node.func, ast.Name) and node.func.id == "set":
+                    self.assertIn(node, fine, name)
+                self.assertNotIsInstance(node, (ast.Set, ast.SetComp, ast.GeneratorExp, ast.Yield), name)
+
+    def test_own_methods_of_the_interface_stand_in_their_classes(self):
+        due = {
+            "pieces": ("Joiner", "take missing whole __len__"),
+            "books": ("Book", "fix let_go lead led pairs __len__"),
+            "doors": ("Door", "come waiting give_up fix lead led let_go pairs"),
+            "yards": (
+                "Yard", "join way introduce send cry come lose double bend again road inbox losses broken members"
+            ),
+            "desk": ("Desk", "say"),
+        }
+        for name, tree in trees():
+            if name[:-3] in due:
+                owner, methods = due[name[:-3]]
+                found = [node for node in tree.body if isinstance(node, ast.ClassDef) and node.name == owner]
+                self.assertEqual(len(found), 1)
+                defined = {node.name for node in found[0].body if isinstance(node, ast.FunctionDef)}
+                self.assertLessEqual(set(methods.split()), defined)
+
+    def test_functions_of_the_interface_stand_in_their_files(self):
+        due = {
+            "kinds": "is_kind is_word is_name own_name owner_of", "sayings": "is_saying paths_of part_at size_of",
+            "less": "carries lessened", "letters": "written read", "calls": "written read", "pages": "written read",
+            "sounds": "written read", "bodies": "written_as read_as is_body", "pieces": "seal_of parted",
+            "bars": "is_test is_bars barred_by", "things": "is_thing", "papers": "paper_of first_fault is_paper",
+        }
+        for name, tree in trees():
+            defined = {node.name for node in tree.body if isinstance(node, ast.FunctionDef)}
+            self.assertLessEqual(set(due.get(name[:-3], "").split()), defined)
+
     def test_builtins(self):
         import builtins
         for name, tree in trees():
